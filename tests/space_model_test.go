@@ -287,13 +287,11 @@ func TestEveryRow(t *testing.T) {
 	checkMet(t, met, impl.OK, impl.ErrForm, impl.ErrSyntax, impl.ErrNone)
 }
 
-// Elements in and beside each other: each step begins one, or ends the last (an empty name).
-func TestEveryTree(t *testing.T) {
-	met := map[int64]int{}
-	steps := events(start(""), start("a"), start("p:a"), start("p:a", "xmlns:p", "u"), start("p:a", "xmlns:p", "v"), start("a", "xmlns", "u"), start("a", "xmlns", ""), start("a", "xmlns:q", "u", "p:k", "", "q:k", ""), start("a", "xmlns:p", ""))
-	for _, root := range events(start("r"), start("r", "xmlns:p", "w"), start("r", "xmlns", "w", "xmlns:p", "u")) {
-		everyRow(steps, 5, func(l []impl.Event) {
-			row, open := events(root), []string{"r"}
+// everyTree: elements in and beside each other; each step begins one, or ends the last (an empty name).
+func everyTree(roots []impl.Event, steps []impl.Event, most int, visit func([]impl.Event)) {
+	for _, root := range roots {
+		everyRow(append(events(start("")), steps...), most, func(l []impl.Event) {
+			row, open := events(root), []string{root.Name}
 			for _, e := range l {
 				last := len(open) - 1
 				if e.Name != "" {
@@ -305,9 +303,18 @@ func TestEveryTree(t *testing.T) {
 			for _, name := range slices.Backward(open) {
 				row = append(row, end(name))
 			}
-			met[checkAgainstModel(t, row)]++
+			visit(row)
 		})
 	}
+}
+
+func TestEveryTree(t *testing.T) {
+	met := map[int64]int{}
+	roots := events(start("r"), start("r", "xmlns:p", "w"), start("r", "xmlns", "w", "xmlns:p", "u"))
+	steps := events(start("a"), start("p:a"), start("p:a", "xmlns:p", "u"), start("p:a", "xmlns:p", "v"), start("a", "xmlns", "u"), start("a", "xmlns", ""), start("a", "xmlns:q", "u", "p:k", "", "q:k", ""), start("a", "xmlns:p", ""))
+	everyTree(roots, steps, 5, func(row []impl.Event) {
+		met[checkAgainstModel(t, row)]++
+	})
 	checkMet(t, met, impl.OK, impl.ErrSyntax, impl.ErrNone, impl.ErrThere)
 }
 

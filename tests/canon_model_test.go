@@ -225,6 +225,7 @@ func rawText(l []impl.Event) string {
 var keptLists = [][]string{{""}, {"p"}, {"q", "", "p"}, {"xml", "z", "q", "q"}, {"p", "q"}, {"", "q"}, {"p", ""}}
 
 func TestCanonOfEveryTree(t *testing.T) {
+	t.Parallel()
 	met := map[int64]int{}
 	roots := events(start("r"), start("p:r", "xmlns:p", "w"), start("r", "xmlns", "w", "xmlns:p", "u", "xmlns:q", "x"))
 	steps := events(start("a"), start("p:a"), start("p:a", "xmlns:p", "u"), start("p:a", "xmlns:p", "v", "xmlns", ""), start("a", "xmlns", "u"), start("a", "xmlns", ""), start("a", "xmlns:p", "v"), start("a", "xmlns:q", "v", "q:k", "", "k", ""), start("q:a", "xmlns", "v", "p:k", ""))
@@ -239,6 +240,7 @@ func TestCanonOfEveryTree(t *testing.T) {
 }
 
 func TestCanonOfEveryElement(t *testing.T) {
+	t.Parallel()
 	met := map[int64]int{}
 	attrs := start("", "k", "1", "b", "", "p:k", "2", "q:k", "3", "p:b", "<", "xml:k", "4", "xmlns", "", "xmlns", "z", "xmlns:p", "u", "xmlns:p", "x", "xmlns:q", "w", "xmlns:q", "&#10;", "xmlns:xml", xmlSpace, "a:b:c", "").Attrs
 	for _, name := range []string{"a", "p:a", "q:a", "xml:a"} {
@@ -254,6 +256,7 @@ func TestCanonOfEveryElement(t *testing.T) {
 }
 
 func TestCanonOfEveryRowOfMarks(t *testing.T) {
+	t.Parallel()
 	met := map[int64]int{}
 	head := ent("e", "<b/>&#38;lt;") + ent("s", "\t\n'") + "<!ATTLIST b k ID ' 1\n2 ' p:l CDATA '&s;\"'>"
 	for _, c := range []struct {
@@ -272,6 +275,7 @@ func TestCanonOfEveryRowOfMarks(t *testing.T) {
 
 // Each document whole, and with one of its bytes taken away or made another.
 func TestCanonOfChangedDocuments(t *testing.T) {
+	t.Parallel()
 	met := map[int64]int{}
 	for _, l := range documents {
 		text := textOf(l)

@@ -534,6 +534,7 @@ func checkHeadForm(t *testing.T, text string) {
 }
 
 func TestHeadsAgainstForms(t *testing.T) {
+	t.Parallel()
 	for _, c := range []struct {
 		ahead  string
 		pieces string

@@ -88,6 +88,7 @@ func checkStays(t *testing.T, text string, more string, closed bool, first impl.
 
 // Promises 10 and 11 of every short text of some pieces, many of them parts of a character, of a mark or of a line's end.
 func TestSessionsOfEveryText(t *testing.T) {
+	t.Parallel()
 	met := map[int64]int{}
 	for _, c := range []struct {
 		ahead  string
@@ -116,6 +117,7 @@ func TestSessionsOfEveryText(t *testing.T) {
 
 // Promises 10 and 11 of documents that are cut off anywhere, with one byte made another, or put between.
 func TestSessionsOfChangedDocuments(t *testing.T) {
+	t.Parallel()
 	for _, l := range documents {
 		text := textOf(l)
 		for i := range len(text) {

@@ -147,6 +147,7 @@ func inParts(text string, size int) []string {
 
 // Promise 10.
 func TestDocumentsFedInParts(t *testing.T) {
+	t.Parallel()
 	for _, l := range documents {
 		text := textOf(l)
 		checkParted(t, text, impl.ErrEnd, toldBy(l))
@@ -182,6 +183,7 @@ func TestDocumentsFedInThreeParts(t *testing.T) {
 
 // A document with a fault tells the events ahead of it, and then its code.
 func TestWrongDocumentsFedInParts(t *testing.T) {
+	t.Parallel()
 	met := map[int64]int{}
 	for _, text := range []string{
 		"", " \r\n", "x", "<a", "<a>", "<a>x", "<a><b/>x", "<a>x</b>", "<a/>x", "<a/>\r\n<b/>", "<a>x<b/>]]></a>", "<a><!--c--><?xml?></a>", "<a><!--\u20ac--->", "</a>", "<a/><!DOCTYPE a>", "<!-->", "<?xml version='1.0'?><a/>", encodedLine[:30] + "'UTF-8'?><a/>", "\r\n" + firstLine + "<a/>",
@@ -227,6 +229,7 @@ var tails = []struct {
 }
 
 func TestEndsOfWhatWasFed(t *testing.T) {
+	t.Parallel()
 	for _, c := range tails {
 		for _, ahead := range documents[6:9] {
 			for n := range ahead {

@@ -323,6 +323,7 @@ func checkFirstBytes(t *testing.T, text string) {
 var modelHead = headed(ent("e", "x<b/>&f;")+ent("f", "&#38;lt;\n")+ent("g", "<b k='&f;'>&h;</b>")+ent("h", "y&i;")+ent("i", "<b>&g;</b>")+ent("j", "</a><a>")+ent("k", "&#38;")+ent("l", "z&#13;")+"<!ATTLIST a k ID ' &f; ' m CDATA #IMPLIED><!ATTLIST b n NMTOKEN '1\t &k;'>", "")
 
 func TestReadAgainstModel(t *testing.T) {
+	t.Parallel()
 	for _, c := range []struct {
 		ahead  string
 		pieces string
@@ -347,6 +348,7 @@ func TestReadAgainstModel(t *testing.T) {
 }
 
 func TestFirstBytesOfEveryText(t *testing.T) {
+	t.Parallel()
 	everyText("", []string{"<a>", "</a>", "x\u20ac", "<!--c-->", "<b k=''/>", "&lt;", "&x;", "]]>"}, 4, func(text string) {
 		checkFirstBytes(t, text)
 	})
@@ -357,6 +359,7 @@ func TestFirstBytesOfEveryText(t *testing.T) {
 
 // Each document with one of its bytes taken away, doubled, or made another.
 func TestChangedDocuments(t *testing.T) {
+	t.Parallel()
 	for _, l := range documents {
 		text := textOf(l)
 		for i := range len(text) {

@@ -280,6 +280,7 @@ func checkMet(t *testing.T, met map[int64]int, codes ...int64) {
 }
 
 func TestEveryRow(t *testing.T) {
+	t.Parallel()
 	met := map[int64]int{}
 	everyRow(events(start("a"), start("p:a", "xmlns:p", "u"), start("p:a"), start("b", "xmlns", "v"), end("a"), end("p:a"), end("b"), words("x"), remark("y"), order("o", ""), order("o:o", ""), impl.Event{Name: "a"}), 5, func(l []impl.Event) {
 		met[checkAgainstModel(t, l)]++
@@ -309,6 +310,7 @@ func everyTree(roots []impl.Event, steps []impl.Event, most int, visit func([]im
 }
 
 func TestEveryTree(t *testing.T) {
+	t.Parallel()
 	met := map[int64]int{}
 	roots := events(start("r"), start("r", "xmlns:p", "w"), start("r", "xmlns", "w", "xmlns:p", "u"))
 	steps := events(start("a"), start("p:a"), start("p:a", "xmlns:p", "u"), start("p:a", "xmlns:p", "v"), start("a", "xmlns", "u"), start("a", "xmlns", ""), start("a", "xmlns:q", "u", "p:k", "", "q:k", ""), start("a", "xmlns:p", ""))

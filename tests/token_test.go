@@ -492,6 +492,7 @@ func everyText(ahead string, pieces []string, most int, visit func(string)) {
 }
 
 func TestNextAgainstForms(t *testing.T) {
+	t.Parallel()
 	for _, c := range []struct {
 		ahead  string
 		pieces string
